@@ -58,7 +58,7 @@ class Face:
 
     def _check(self, letter):
         # A text of two letters is found in `letters`, too, but is no letter.
-        if not isinstance(letter, str) or letter not in tuple(self.letters):
+        if letter not in tuple(self.letters):
             raise BadWord(letter)
 
     def __eq__(self, other):

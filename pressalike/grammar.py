@@ -58,9 +58,9 @@ class Grammar:
                 walked = self._walk(piece)
                 if not may_follow or not self._is_right_inside(piece, walked):
                     return path
+                # Behind a part that cannot follow nothing needs to be judged: that part comes first.
                 for place in reversed(range(len(piece.parts))):
-                    welcome = walked[place] is None or walked[place + 1] is not None
-                    todo.append((path + (place,), piece.parts[place], welcome))
+                    todo.append((path + (place,), piece.parts[place], walked[place + 1] is not None))
         return None
 
     def fits(self, tree):

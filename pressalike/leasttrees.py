@@ -22,25 +22,18 @@ def least(grammar, kind, marks):
 
 def front(grammar, kind, room):
     """Return the least parts that lead from room 0 of the kind to the room."""
-    _check_room(grammar, kind, room)
     rows = _least_rows(grammar, kind, [room], _least_pieces(grammar))
-    if 0 not in rows:
+    if not is_integer_from(room, 0, grammar.rooms(kind) - 1) or 0 not in rows:
         raise BadGrammar(kind)
     return rows[0][2]
 
 
 def rest(grammar, kind, room):
     """Return the least parts that lead from the room to a final room of the kind."""
-    _check_room(grammar, kind, room)
     rows = _least_rows(grammar, kind, _finals(grammar, kind), _least_pieces(grammar))
     if room not in rows:
         raise BadGrammar(kind)
     return rows[room][2]
-
-
-def _check_room(grammar, kind, room):
-    if not is_integer_from(room, 0, grammar.rooms(kind) - 1):
-        raise BadGrammar(kind)
 
 
 def _finals(grammar, kind):

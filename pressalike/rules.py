@@ -71,13 +71,13 @@ class Rule:
 
 def _is_pattern(pattern):
     for name, text in zip(PATTERN_NAMES, pattern):
-        if not isinstance(text, str) or text not in ("",) + texts_for(name):
+        if text not in ("",) + texts_for(name):
             return False
     return True
 
 
 def _is_pair(pair):
-    return is_row(pair) and len(pair) == 2 and isinstance(pair[0], str) and pair[0] in VALUE_NAMES
+    return is_row(pair) and len(pair) == 2 and pair[0] in VALUE_NAMES
 
 
 def _is_setting(name, value):

@@ -30,6 +30,10 @@ class TestFields(Case):
     def test_classes(self):
         self.assertEqual((Inner.__bases__, Block.__bases__), ((Piece,), (Piece,)))
 
+    def test_base(self):
+        piece = Piece("C", "xy")
+        self.assertEqual((piece.kind, piece.marks, piece.cost), ("C", "xy", 1))
+
     def test_every_label(self):
         for kind in KINDS:
             for marks in MARKS:

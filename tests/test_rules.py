@@ -80,8 +80,9 @@ class TestMaking(Case):
 
     def test_wrong_names(self):
         for name in ("size", "Face", "spaces", ""):
-            self.wrong(Rule, 1, **{name: 1})
-            self.wrong(Rule, 1, face=1, **{name: 1})
+            for value in (0, 1, True, False):
+                self.wrong(Rule, 1, **{name: value})
+                self.wrong(Rule, 1, face=1, **{name: value})
             self.wrong(Rule.made, 1, NO_PATTERN, [(name, 1)])
             self.wrong(Rule.made, 1, NO_PATTERN, [("face", 1), (name, 1)])
         for name in ("kind", "mark", "weight", "self", "cls", "settings"):

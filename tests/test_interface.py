@@ -1,0 +1,95 @@
+"""What the interface lists exists where it is listed."""
+
+import ast
+import importlib
+import inspect
+import pathlib
+import unittest
+
+FOLDER = pathlib.Path(__file__).resolve().parent.parent / "pressalike"
+
+FUNCTIONS = {
+    "outlines": {"outline_of": "letter thing", "each_side": "ring", "winding": "rings x y"},
+    "inks": {
+        "ink_of": "rings", "leftmost": "ink row", "rightmost": "ink row", "step_of": "ink", "blanks": "left right row gap",
+    },
+    "words": {
+        "is_word": "face word", "columns": "face word", "width": "face word", "stamps": "face word",
+        "words_up_to": "face most least",
+    },
+    "wordkinds": {
+        "told_width": "cap width", "word_states": "face cap", "word_kinds": "face cap", "joint_states": "one two cap",
+        "joint_kinds": "one two cap", "least_unlike": "one two",
+    },
+    "treetext": {"write_tree": "piece", "read_tree": "text"},
+    "leasttrees": {"least": "grammar kind marks", "front": "grammar kind room", "rest": "grammar kind room"},
+    "grammartext": {"write_grammar": "grammar", "read_grammar": "text"},
+    "sheettext": {"write_rule": "rule", "write_sheet": "sheet", "read_sheet": "text"},
+}
+CLASSES = {
+    "faces": {"Face": {"__init__": "outlines apart", "letters": "", "ink": "letter", "step": "letter", "gap": "left right",
+                       "bar": "left right", "within": "other", "__eq__": "other"}},
+    "pieces": {
+        "Piece": {"__init__": "kind marks", "cost": "", "piece_at": "path", "each_piece": "", "each_block": ""},
+        "Inner": {"__init__": "kind marks parts", "is_block": "", "__len__": "", "__iter__": "", "__eq__": "other"},
+        "Block": {"__init__": "kind marks words", "is_block": "", "__len__": "", "__eq__": "other"},
+    },
+    "grammar": {"Grammar": {
+        "__init__": "root rows", "has_blocks": "kind", "rooms": "kind", "follow": "kind room label",
+        "is_final": "kind room", "steps": "kind room", "judge": "tree", "fits": "tree", "endless": "", "trimmed": "",
+        "__eq__": "other",
+    }},
+    "edits": {
+        "Edit": {"__init__": "path", "apply": "tree", "inverse": "tree", "own": "tree", "__eq__": "other"},
+        "Words": {"__init__": "path words", "apply": "tree", "inverse": "tree", "own": "tree"},
+        "Marks": {"__init__": "path marks", "apply": "tree", "inverse": "tree", "own": "tree"},
+        "Put": {"__init__": "path piece", "apply": "tree", "inverse": "tree", "own": "tree"},
+        "Drop": {"apply": "tree", "inverse": "tree", "own": "tree"},
+    },
+    "rules": {"Rule": {
+        "__init__": "weight kind mark parent above elder sets", "made": "weight pattern settings", "setting": "name",
+        "__call__": "kind marks context", "__eq__": "other",
+    }},
+    "sheets": {"Sheet": {
+        "__init__": "rules", "__len__": "", "__iter__": "", "__eq__": "other", "winner": "kind marks context name",
+        "values_of": "kind marks context", "below": "kind marks context elder", "with_rule": "rule", "without": "place",
+    }},
+}
+CONSTANTS = {"pieces": ("KINDS", "MARKS"), "rules": ("VALUE_NAMES",)}
+
+
+def names_of(call):
+    return [name for name in inspect.signature(call).parameters if name != "self"]
+
+
+class TestInterface(unittest.TestCase):
+    def defined(self, stem):
+        body = ast.parse((FOLDER / (stem + ".py")).read_text()).body
+        return {node.name: node for node in body if isinstance(node, (ast.FunctionDef, ast.ClassDef))}
+
+    def test_functions(self):
+        for stem, functions in FUNCTIONS.items():
+            module = importlib.import_module("pressalike." + stem)
+            for name, parameters in functions.items():
+                self.assertIn(name, self.defined(stem))
+                self.assertEqual(names_of(getattr(module, name)), parameters.split(), name)
+
+    def test_classes(self):
+        for stem, classes in CLASSES.items():
+            module = importlib.import_module("pressalike." + stem)
+            for name, methods in classes.items():
+                body = self.defined(stem)[name].body
+                own = {node.name for node in body if isinstance(node, ast.FunctionDef)}
+                for method, parameters in methods.items():
+                    self.assertIn(method, own, name)
+                    call = inspect.getattr_static(getattr(module, name), method)
+                    if isinstance(call, property):
+                        call = call.fget
+                    elif isinstance(call, classmethod):
+                        call = getattr(getattr(module, name), method)
+                    self.assertEqual(names_of(call), parameters.split(), (name, method))
+
+    def test_constants(self):
+        for stem, names in CONSTANTS.items():
+            for name in names:
+                self.assertIsInstance(getattr(importlib.import_module("pressalike." + stem), name), tuple)
