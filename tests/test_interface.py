@@ -25,6 +25,14 @@ FUNCTIONS = {
     "leasttrees": {"least": "grammar kind marks", "front": "grammar kind room", "rest": "grammar kind room"},
     "grammartext": {"write_grammar": "grammar", "read_grammar": "text"},
     "sheettext": {"write_rule": "rule", "write_sheet": "sheet", "read_sheet": "text"},
+    "contexts": {"dead_rules": "style grammar", "rule_shown": "style grammar place", "agree": "one two grammar"},
+    "fill": {"fill_widths": "measure widths", "fill": "face measure words", "line_count": "face measure words"},
+    "pens": {"pen_after": "measure pen width", "text_ends": "face measure most"},
+    "standings": {
+        "standings": "length", "count_class": "length count", "after_block": "length standing count space kept page",
+        "all_after": "length standing space kept page",
+    },
+    "plainpages": {"plain_pages": "length blocks"},
 }
 CLASSES = {
     "faces": {"Face": {"__init__": "outlines apart", "letters": "", "ink": "letter", "step": "letter", "gap": "left right",
@@ -53,6 +61,17 @@ CLASSES = {
     "sheets": {"Sheet": {
         "__init__": "rules", "__len__": "", "__iter__": "", "__eq__": "other", "winner": "kind marks context name",
         "values_of": "kind marks context", "below": "kind marks context elder", "with_rule": "rule", "without": "place",
+    }},
+    "styles": {"Style": {
+        "__init__": "sheet faces length measure", "face": "value", "root_context": "", "with_sheet": "sheet", "__eq__": "other",
+    }},
+    "contexts": {"Entries": {"__init__": "grammar styles", "__iter__": "", "__len__": "", "shown": "entry"}},
+    "pens": {"LineGain": {
+        "__init__": "one measure_one two measure_two", "is_endless": "", "ranks": "", "sample": "number",
+    }},
+    "pages": {"Page": {
+        "__init__": "length", "resumed": "length standing", "begin": "", "block": "count space kept page", "now": "", "pending": "",
+        "settled": "", "finish": "", "went_over": "", "__len__": "",
     }},
 }
 CONSTANTS = {"pieces": ("KINDS", "MARKS"), "rules": ("VALUE_NAMES",)}
@@ -85,7 +104,7 @@ class TestInterface(unittest.TestCase):
                     call = inspect.getattr_static(getattr(module, name), method)
                     if isinstance(call, property):
                         call = call.fget
-                    elif isinstance(call, classmethod):
+                    elif isinstance(call, (classmethod, staticmethod)):
                         call = getattr(getattr(module, name), method)
                     self.assertEqual(names_of(call), parameters.split(), (name, method))
 

@@ -166,6 +166,10 @@ class TestCode(unittest.TestCase):
             used = {node.attr for node in ast.walk(tree) if isinstance(node, ast.Attribute)}
             self.assertEqual((used | bound | top) & UNUSED_NAMES, set(), stem)
 
+    def test_l12_names_of_classes(self):
+        for stem, node in nodes(ast.ClassDef):
+            self.assertTrue(node.name[0].isalpha(), (stem, node.name))
+
     def test_l12_the_lone_underscore_is_not_read(self):
         for stem, node in nodes(ast.Name):
             if node.id == "_":

@@ -1,7 +1,7 @@
 import itertools
 import random
 
-from helpers import Case
+from helpers import Case, random_rule
 
 from pressalike.errors import BadRule
 from pressalike.rules import VALUE_NAMES, Rule
@@ -14,13 +14,6 @@ VALUES = {
     "face": (0, 1), "measure": (1, 2, 3, 4, 5, 6), "space": (0, 1, 2),
     "kept": (False, True), "page": (False, True), "out": (False, True),
 }
-
-
-def random_rule(chance):
-    pattern = [chance.choice(["", "", "", text]) for text in (
-        chance.choice("ABC"), chance.choice("xy"), chance.choice("ABC"), chance.choice("xy"), chance.choice("ABC"))]
-    names = chance.sample(VALUE_NAMES, chance.randrange(1, 4))
-    return Rule.made(chance.randrange(4), pattern, [(name, chance.choice(VALUES[name])) for name in names])
 
 
 def random_context(chance):

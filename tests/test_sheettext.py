@@ -1,7 +1,6 @@
 import random
 
-from helpers import Case
-from test_sheets import random_rule
+from helpers import Case, random_rule
 
 from pressalike.errors import BadLine
 from pressalike.rules import Rule
