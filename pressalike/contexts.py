@@ -61,10 +61,9 @@ def agree(one, two, grammar):
 
 def _agree_at(one, two, entry):
     kind, marks, first, second = entry
-    if first[5] and second[5]:
-        return True
     values = one.sheet.values_of(kind, marks, first)
     others = two.sheet.values_of(kind, marks, second)
+    # Where both contexts are gone, the piece is left out in both.
     return values == others or (values[5] and others[5])
 
 

@@ -59,7 +59,6 @@ class Page:
         """Take the pending lines up by so many rows: those that stay on the former page."""
         first = len(self._rows) - self._loose
         self._rows[first:] = [row - rows for row in self._rows[first:]]
-        self._loose = 0
         if self._went_over is None:
             self._went_over = True
 

@@ -144,7 +144,6 @@ def _ranks_of(ways):
     """
     ranks = {pens: 0 for pens in ways}
     best = {}
-    late = None
     # Ranks that exist are reached with fewer words than there are pens; so a gain in the last round is endless.
     for _ in ways:
         late = None

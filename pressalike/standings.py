@@ -39,7 +39,7 @@ def next_line(length, height, tail, space, barred):
         if not barred:
             return below, 1, False
         return below, _longer(tail, space), False
-    if height == 0 or not barred or tail == 0:
+    if not barred or tail == 0:
         return 1, 0, False
     # All places in the tail are barred; so if the line does not fit behind it either, it begins a page itself.
     over = _longer(tail, space)

@@ -2,7 +2,9 @@
 
 import itertools
 
+from pressalike.joint import joint_block, joint_page
 from pressalike.pieces import Block, Inner
+from pressalike.words import stamps, width
 
 
 class Book:
@@ -135,3 +137,122 @@ def each_context(sheet, tree, context, path=()):
         for place, part in enumerate(tree.parts):
             yield from each_context(sheet, part, (tree.kind, above, elder, face, measure, out), path + (place,))
             elder = part.kind
+
+
+def plain_lines(measure, widths):
+    """Lines of (place of the word, column), by [5.1]: a word joins the line of the word before it if its end fits."""
+    lines = []
+    for place, wide in enumerate(widths):
+        if lines:
+            last, column = lines[-1][-1]
+            begin = column + widths[last] + 1
+            if begin + wide <= measure:
+                lines[-1].append((place, begin))
+                continue
+        lines.append([(place, 0)])
+    return tuple(map(tuple, lines))
+
+
+def block_rows(style, tree):
+    """A list of (values, due, words, stamps of the lines) for all blocks, by [7.1] and [7.2]."""
+    rows, is_due = [], False
+    for _, piece, context in each_context(style.sheet, tree, style.root_context()):
+        values = style.sheet.values_of(piece.kind, piece.marks, context)
+        if values[4] and not values[5]:
+            is_due = True
+        if piece.is_block:
+            face = style.faces[values[0]] if len(style.faces) == 2 else style.faces[0]
+            lines = () if values[5] else plain_lines(values[1], [width(face, word) for word in piece.words])
+            told = tuple(
+                tuple((ink, begin + column) for place, begin in line for ink, column in stamps(face, piece.words[place]))
+                for line in lines
+            )
+            rows.append((values, is_due, piece.words, told))
+            is_due = False
+    return rows
+
+
+def plain_setting(style, tree):
+    """The entry standings and the printed lines of all blocks, by [7.2] to [7.4]."""
+    book, entries, counts = Book(style.length), [], []
+    for values, is_due, _, lines in block_rows(style, tree):
+        book.is_due = book.is_due or is_due
+        entries.append(None if values[5] else book.standing())
+        book.block(len(lines), values[2], values[3], False)
+        counts.append(lines)
+    places, blocks = iter(book.lines()), []
+    for lines in counts:
+        blocks.append(tuple(next(places) + (line,) for line in lines))
+    return entries, tuple(blocks)
+
+
+class TwoBooks:
+    """Two books of the same lines, by [8.3] to [8.6]."""
+
+    def __init__(self, lengths):
+        self.books = [Book(length) for length in lengths]
+        self.is_parted = False
+
+    def page(self, first, second):
+        for book, is_due in zip(self.books, (first, second)):
+            book.is_due = book.is_due or is_due
+        self.compare()
+
+    def block(self, count, first, second):
+        if count > 0 and first[5] != second[5]:
+            self.is_parted = True
+        for book, values in zip(self.books, (first, second)):
+            if not values[5]:
+                book.block(count, values[2], values[3], values[4])
+        self.compare()
+
+    def settled(self):
+        return [book.lines()[:book.many - len(book.pending())] for book in self.books]
+
+    def compare(self):
+        if any(one != two for one, two in zip(*self.settled())):
+            self.is_parted = True
+
+    def joint(self):
+        if self.is_parted:
+            return "parted"
+        told = []
+        for book in self.books:
+            rows = [row for _, row in book.lines()[book.many - len(book.pending()):]]
+            told += [book.standing(), tuple(row - rows[0] for row in rows)]
+        one, two = self.settled()
+        return tuple(told) + (tuple(one[len(two):] + two[len(one):]),)
+
+    def is_alike_at_end(self):
+        return not self.is_parted and self.books[0].lines() == self.books[1].lines()
+
+
+def filled_alike(one, two, first, second, words):
+    """The count of lines if both styles fill the words of a block alike, None if this parts them ([8.5])."""
+    if first[5] or second[5]:
+        return None if words and first[5] != second[5] else len(words)
+    faces = (one.face(first[0]), two.face(second[0]))
+    lines = [plain_lines(values[1], [width(face, word) for word in words]) for face, values in zip(faces, (first, second))]
+    begins = [[line[0][0] for line in rows] for rows in lines]
+    if begins[0] != begins[1] or any(stamps(faces[0], word) != stamps(faces[1], word) for word in words):
+        return None
+    return len(lines[0])
+
+
+def joint_walk(one, two, piece, first, second, joint, told=None):
+    """The joint standing behind a piece; each (kind, marks, context one, context two, ahead, behind, piece) goes to told."""
+    values = [style.sheet.values_of(piece.kind, piece.marks, context) for style, context in ((one, first), (two, second))]
+    ahead = joint
+    if piece.is_block:
+        count = filled_alike(one, two, values[0], values[1], piece.words)
+        joint = "parted" if count is None else joint_block((one.length, two.length), joint, count, *values)
+    else:
+        joint = joint_page(joint, *[told_values[4] and not told_values[5] for told_values in values])
+        elder = ""
+        for part in piece.parts:
+            below = [style.sheet.below(piece.kind, piece.marks, context, elder) for style, context in ((one, first), (two, second))]
+            joint = joint_walk(one, two, part, below[0], below[1], joint, told)
+            elder = part.kind
+    if told is not None:
+        told.append((piece.kind, piece.marks, first, second, ahead, joint, piece))
+    return joint

@@ -118,6 +118,22 @@ class TestEntries(Case):
         self.assertEqual(write_tree(entries.shown(("B", "x", ("A", "", "C", 0, 3, False)))[0]), "A{B[] C{} Bx[]}")
         self.assertEqual(entries.shown(("B", "", ("A", "", "B", 0, 3, False)))[1], (3,))
 
+    def test_a_deep_part_that_costs_more_than_one_behind_others(self):
+        grammar = Grammar("A", {
+            "A": (3, [(0, "B", "y", 1), (1, "A", "x", 2), (0, "B", "", 2)], [0, 2]),
+            "B": (1, [(0, "C", "", 0)], [0]), "C": (1, [(0, "A", "x", 0)], [0]),
+        })
+        entries = self.check(grammar, [], 6)
+        self.assertEqual(write_tree(entries.shown(("A", "x"))[0]), "A{By{} Ax{}}")
+
+    def test_a_front_that_is_cheaper_by_another_way(self):
+        grammar = Grammar("A", {
+            "A": (3, [(0, "B", "", 1), (0, "C", "", 2), (1, "B", "x", 0), (2, "B", "x", 0)], [0]), "B": None,
+            "C": (3, [(0, "B", "", 1), (1, "B", "", 2)], [2]),
+        })
+        entries = self.check(grammar, [style_of()], 7)
+        self.assertEqual(entries.shown(("B", "", ("A", "", "B", 0, 3, False)))[0].cost, 5)
+
     def test_what_is_no_entry(self):
         entries = Entries(FLAT, style_of())
         for entry in (
@@ -267,7 +283,9 @@ class TestAgree(Case):
     def test_values_of_what_is_left_out_do_not_count(self):
         out = Rule(1, kind="B", out=True)
         self.assertTrue(agree(style_of(out), style_of(out, Rule(1, kind="B", space=2, page=True)), FLAT))
-        self.assertFalse(agree(style_of(out), style_of(Rule(1, kind="B", space=2)), FLAT))
+        for other in (style_of(), style_of(Rule(1, kind="B", space=2))):
+            self.assertFalse(agree(style_of(out), other, FLAT))
+            self.assertFalse(agree(other, style_of(out), FLAT))
 
     def test_what_is_gone_in_both_does_not_count(self):
         out = Rule(1, mark="x", out=True)

@@ -2,6 +2,7 @@ import itertools
 import random
 
 from helpers import BAR, DOT, Case, some_faces
+from plainly import plain_lines
 
 from pressalike.errors import BadWord
 from pressalike.faces import Face
@@ -10,20 +11,6 @@ from pressalike.words import width
 
 FACE = Face([DOT])
 TWO = Face([DOT, BAR])
-
-
-def plain_lines(measure, widths):
-    """The words of [5.1]: each word joins the line of the word before it if its end there fits."""
-    lines = []
-    for place, wide in enumerate(widths):
-        if lines:
-            last, column = lines[-1][-1]
-            begin = column + widths[last] + 1
-            if begin + wide <= measure:
-                lines[-1].append((place, begin))
-                continue
-        lines.append([(place, 0)])
-    return tuple(map(tuple, lines))
 
 
 class TestWidths(Case):

@@ -33,6 +33,20 @@ FUNCTIONS = {
         "all_after": "length standing space kept page",
     },
     "plainpages": {"plain_pages": "length blocks"},
+    "together": {
+        "both_after": "length pair space kept page", "class_pairs": "length one measure_one two measure_two",
+        "pairs_after": "length found one values_one two values_two", "text_pairs": "style one values_one two values_two",
+        "text_after": "style standing values", "parting_blocks": "length one two",
+    },
+    "setter": {
+        "block_settings": "style tree", "block_stamps": "style values words", "standing_before": "style tree", "print_tree": "style tree",
+    },
+    "drawing": {"draw_line": "line", "draw_page": "printed number length", "draw_print": "printed length"},
+    "joint": {
+        "joint_begin": "", "joint_page": "joint first second", "joint_block": "lengths joint count first second", "alike_at_end": "joint",
+    },
+    "jointtext": {"joint_texts": "one two joint first second"},
+    "joinedrows": {"summaries": "one two grammar"},
 }
 CLASSES = {
     "faces": {"Face": {"__init__": "outlines apart", "letters": "", "ink": "letter", "step": "letter", "gap": "left right",
@@ -72,6 +86,12 @@ CLASSES = {
     "pages": {"Page": {
         "__init__": "length", "resumed": "length standing", "begin": "", "block": "count space kept page", "now": "", "pending": "",
         "settled": "", "finish": "", "went_over": "", "__len__": "",
+    }},
+    "prints": {"Print": {
+        "__init__": "blocks", "pages": "", "lines_of": "number", "unlike": "other", "__len__": "", "__iter__": "", "__eq__": "other",
+    }},
+    "keptbook": {"Redo": {}, "KeptBook": {
+        "__init__": "style tree", "printed": "", "entries": "", "undoable": "", "change": "edit", "change_all": "edits", "undo": "",
     }},
 }
 CONSTANTS = {"pieces": ("KINDS", "MARKS"), "rules": ("VALUE_NAMES",)}
