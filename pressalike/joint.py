@@ -70,7 +70,7 @@ def _with_page(side):
     return settled + _stayed(standing, offsets), TOP, ()
 
 
-def _went_over(offsets):
+def _gone_over(offsets):
     """Return (begins, row) of the pending lines if they go over."""
     return tuple([(offset == 0, offset) for offset in offsets])
 
@@ -81,7 +81,7 @@ def _with_lines(length, side, count, values):
     page = Page.resumed(length, standing)
     page.block(count, space=values[2], kept=values[3])
     if page.went_over is not None:
-        settled = settled + (_went_over(offsets) if page.went_over else _stayed(standing, offsets))
+        settled = settled + (_gone_over(offsets) if page.went_over else _stayed(standing, offsets))
         offsets = ()
     # The first pending line stands here; the lines that were pending before are the first ones if they still are.
     first = page.now[1] - page.now[2]
