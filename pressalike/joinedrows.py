@@ -2,19 +2,27 @@
 
 from heapq import heappop, heappush
 
-from pressalike.contexts import parts_cost, with_elder
-from pressalike.joint import PARTED, joint_begin, joint_page
+from pressalike.contexts import parts_cost
+from pressalike.joint import PARTED, alike_at_end, joint_begin, joint_page
 from pressalike.jointtext import check_faces, filled_texts, texts_behind
 from pressalike.leasttrees import rest
 from pressalike.pens import text_cost
 from pressalike.pieces import Block, Inner
+from pressalike.sights import RuleSight, Sight
 
 
 def summaries(one, two, grammar):
     """Return a dict from each key to a dict from each joint standing behind it to (least cost, such a piece)."""
     check_faces(one, two)
-    search = Search(one, two, grammar.trimmed())
+    search = Search(Sight(one), Sight(two), grammar.trimmed())
     return search.run()
+
+
+def least_unlike(one, two, grammar):
+    """Return a manuscript of least cost that the two styles print unlike, None if there is none."""
+    check_faces(one, two)
+    search = Search(RuleSight(one), RuleSight(two), grammar.trimmed())
+    return search.first_unlike()
 
 
 class Search:
@@ -29,6 +37,7 @@ class Search:
     """
 
     def __init__(self, one, two, grammar):
+        # The sights of both styles.
         self._one = one
         self._two = two
         self._grammar = grammar
@@ -38,6 +47,7 @@ class Search:
         # For each node, the fronts that go on behind it: (kind, marks, cost, node, room, parts).
         self._users = {}
         self._texts = {}
+        self._rests = {}
         self._pieces = {}
         self._least = {}
         self._queue = []
@@ -45,15 +55,34 @@ class Search:
 
     def run(self):
         """Return the summaries."""
-        self._ask((self._grammar.root, "", self._one.root_context(), self._two.root_context(), joint_begin()))
+        self._ask_root()
         while self._queue:
-            cost, _, node, front, inside = heappop(self._queue)
-            if cost == self._least[(node, front)]:
-                if front[0] is None:
-                    self._end(cost, node, front[2], inside)
-                else:
-                    self._go_on(cost, node, front, inside)
+            self._take_up()
         return {key: self._row(key) for key in self._nodes}
+
+    def first_unlike(self):
+        """Return the first manuscript that comes out unlike, None if there is none; it has the least cost."""
+        root = self._ask_root()
+        while self._queue:
+            node, front = self._take_up()
+            if node == root and front[0] is None and not alike_at_end(front[2]):
+                return self._piece(self._grammar.root, "", root, front[2])
+        return None
+
+    def _ask_root(self):
+        """Return the node of the root."""
+        contexts = (self._one.style.root_context(), self._two.style.root_context())
+        return self._ask((self._grammar.root, "") + contexts + (joint_begin(),))
+
+    def _take_up(self):
+        """Take up what comes first in the queue; return its node and front."""
+        cost, _, node, front, inside = heappop(self._queue)
+        if cost == self._least[(node, front)]:
+            if front[0] is None:
+                self._end(cost, node, front[2], inside)
+            else:
+                self._go_on(cost, node, front, inside)
+        return node, front
 
     def _row(self, key):
         """Return the dict from each joint standing behind the key to (cost, piece)."""
@@ -84,14 +113,12 @@ class Search:
         """Return the node of the key; push its first fronts if it is new."""
         if key not in self._nodes:
             kind, marks, context_one, context_two, ahead = key
-            first = self._one.sheet.values_of(kind, marks, context_one)
-            second = self._two.sheet.values_of(kind, marks, context_two)
+            first, below_one = self._one.set_in(kind, marks, context_one)
+            second, below_two = self._two.set_in(kind, marks, context_two)
             if self._grammar.has_blocks(kind):
                 self._nodes[key] = (kind, first, second, ahead)
             else:
                 inside = joint_page(ahead, first[4] and not first[5], second[4] and not second[5])
-                below_one = self._one.sheet.below(kind, marks, context_one, "")
-                below_two = self._two.sheet.below(kind, marks, context_two, "")
                 self._nodes[key] = (kind, below_one, below_two, inside)
             self._begin(self._nodes[key])
         return self._nodes[key]
@@ -107,8 +134,8 @@ class Search:
             self._push(1, node, (0, "", joint), ())
             return
         if (first, second) not in self._texts:
-            self._texts[(first, second)] = filled_texts(self._one, self._two, first, second)
-        lengths = (self._one.length, self._two.length)
+            self._texts[(first, second)] = filled_texts(self._one.style, self._two.style, first, second)
+        lengths = (self._one.style.length, self._two.style.length)
         for behind, words in texts_behind(lengths, joint, self._texts[(first, second)], first, second).items():
             self._push(1 + text_cost(words), node, (None, "", behind), words)
 
@@ -117,18 +144,31 @@ class Search:
         room, elder, joint = front
         kind, below_one, below_two, _ = node
         if joint == PARTED:
-            behind = rest(self._grammar, kind, room)
+            behind = self._rest(kind, room)
             self._push(cost + parts_cost(behind), node, (None, "", PARTED), parts + behind)
             return
         if self._grammar.is_final(kind, room):
             self._push(cost, node, (None, "", joint), parts)
-        contexts = (with_elder(below_one, elder), with_elder(below_two, elder))
+        contexts = (self._one.part_context(below_one, elder), self._two.part_context(below_two, elder))
+        known = {}
         for part, marks, target in self._grammar.steps(kind, room):
             below = self._ask((part, marks) + contexts + (joint,))
-            user = (part, marks, cost, node, target, parts)
-            self._users[below].append(user)
-            for behind in self._insides[below]:
-                self._add(user, below, behind)
+            # Of parts that do the same and lead to the same room one is enough.
+            if (below, target) not in known:
+                known[(below, target)] = True
+                user = (part, marks, cost, node, target, parts)
+                self._users[below].append(user)
+                for behind in self._insides[below]:
+                    self._add(user, below, behind)
+
+    def _rest(self, kind, room):
+        if (kind, room) not in self._rests:
+            self._rests[(kind, room)] = rest(self._grammar, kind, room)
+        return self._rests[(kind, room)]
+
+    def _elder(self, kind):
+        """Return what is seen of an elder of this kind under one of the styles."""
+        return kind if kind in (self._one.elder(kind), self._two.elder(kind)) else ""
 
     def _end(self, cost, node, behind, inside):
         """Note the inside, and let all users of the node go on behind it."""
@@ -140,6 +180,6 @@ class Search:
         """Push the front of the user behind a part of this node."""
         kind, marks, ahead, node, room, parts = user
         cost = ahead + self._insides[below][behind][0]
-        front = (room, kind, behind)
+        front = (room, self._elder(kind), behind)
         if self._is_less(cost, node, front):
             self._push(cost, node, front, parts + (self._piece(kind, marks, below, behind),))

@@ -17,7 +17,7 @@ def least(grammar, kind, marks):
     pieces = _least_pieces(grammar)
     if kind not in pieces:
         raise BadGrammar(kind)
-    return _with_marks(pieces[kind], marks)
+    return with_marks(pieces[kind], marks)
 
 
 def front(grammar, kind, room):
@@ -40,7 +40,8 @@ def _finals(grammar, kind):
     return [room for room in range(grammar.rooms(kind)) if grammar.is_final(kind, room)]
 
 
-def _with_marks(piece, marks):
+def with_marks(piece, marks):
+    """Return the piece with these marks in place of its own."""
     if piece.is_block:
         return Block(piece.kind, marks, piece.words)
     return Inner(piece.kind, marks, piece.parts)
@@ -67,7 +68,7 @@ def _least_rows(grammar, kind, goals, pieces):
         for room in range(many):
             for part, marks, target in grammar.steps(kind, room):
                 if part in pieces and target in rows:
-                    row = _row_with(_with_marks(pieces[part], marks), rows[target])
+                    row = _row_with(with_marks(pieces[part], marks), rows[target])
                     if room not in rows or row[:2] < rows[room][:2]:
                         rows[room] = row
     return rows

@@ -3,6 +3,8 @@
 import unittest
 
 from pressalike.faces import Face
+from pressalike.grammar import Grammar
+from pressalike.leasttrees import rest
 from pressalike.pieces import Block, Inner
 from pressalike.rules import VALUE_NAMES, Rule, values_for
 from pressalike.sheets import Sheet
@@ -70,6 +72,50 @@ def random_piece(chance, levels, letters="a"):
     if levels == 1 or chance.random() < 0.6:
         return Block(kind, marks, random_words(chance, letters))
     return Inner(kind, marks, [random_piece(chance, levels - 1, letters) for _ in range(chance.randrange(5))])
+
+
+def random_grammar(chance):
+    """A grammar with manuscripts: most of its rooms lead forward, so that some of its pieces have no greatest number of
+    parts and some do."""
+    while True:
+        kinds = chance.choice(["AB", "ABC", "ABC"])
+        rows = {kind: _random_row(chance, kinds, kind) for kind in kinds[:-1]}
+        rows[kinds[-1]] = None
+        grammar = Grammar("A", rows)
+        if "A" not in grammar.endless():
+            return grammar
+
+
+def _random_row(chance, kinds, kind):
+    rooms = chance.choice([1, 2, 3, 3])
+    steps = {}
+    for room in range(rooms):
+        for _ in range(chance.choice([1, 1, 2])):
+            part = chance.choice(kinds if chance.random() < 0.1 else kinds[kinds.index(kind) + 1:])
+            target = room if chance.random() < 0.15 else room + 1
+            if target < rooms or rooms == 1:
+                steps[(room, part, chance.choice(["", "", "x", "y"]))] = min(target, rooms - 1)
+    finals = [rooms - 1] + [room for room in range(rooms) if chance.random() < 0.3]
+    return rooms, [step + (target,) for step, target in steps.items()], finals
+
+
+def random_manuscript(chance, grammar, letters="a", levels=4):
+    """A manuscript of the grammar; below so many levels it has the least parts."""
+    return _random_inside(chance, grammar.trimmed(), (grammar.root, ""), letters, levels)
+
+
+def _random_inside(chance, grammar, label, letters, levels):
+    kind, marks = label
+    if grammar.has_blocks(kind):
+        return Block(kind, marks, random_words(chance, letters))
+    room, parts = 0, []
+    while levels > 0 and len(parts) < 6 and not (grammar.is_final(kind, room) and chance.random() < 0.25):
+        steps = grammar.steps(kind, room)
+        if not steps:
+            break
+        part, part_marks, room = chance.choice(steps)
+        parts.append(_random_inside(chance, grammar, (part, part_marks), letters, levels - 1))
+    return Inner(kind, marks, tuple(parts) + rest(grammar, kind, room))
 
 
 class Case(unittest.TestCase):

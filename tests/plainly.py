@@ -1,9 +1,12 @@
 """What the document says, worked out the long way: the tests compare the program with this."""
 
+import functools
 import itertools
 
+from pressalike.edits import Drop, Marks, Put, Words
+from pressalike.grammar import Grammar
 from pressalike.joint import joint_block, joint_page
-from pressalike.pieces import Block, Inner
+from pressalike.pieces import MARKS, Block, Inner
 from pressalike.words import stamps, width
 
 
@@ -256,3 +259,122 @@ def joint_walk(one, two, piece, first, second, joint, told=None):
     if told is not None:
         told.append((piece.kind, piece.marks, first, second, ahead, joint, piece))
     return joint
+
+
+@functools.lru_cache(maxsize=None)
+def one_history(length):
+    """A dict from each standing to a row of blocks that leaves it."""
+    return {standing: rows[0] for standing, rows in histories(length).items()}
+
+
+class Set:
+    """A piece that is set in a context from a standing, by [9.1].
+
+    `lines` has the entry standing of each block that has a line and is not left out, None for other blocks; `behind` is
+    the standing behind; `ahead` has (path, piece, context, standing ahead) of each piece.
+    """
+
+    def __init__(self, style, piece, context, standing):
+        book = Book(style.length, one_history(style.length)[standing])
+        self.lines, self.ahead = [], []
+        for path, part, told in each_context(style.sheet, piece, context):
+            values = style.sheet.values_of(part.kind, part.marks, told)
+            self.ahead.append((path, part, told, book.standing()))
+            book.is_due = book.is_due or (values[4] and not values[5])
+            if part.is_block:
+                face = style.faces[values[0]] if len(style.faces) == 2 else style.faces[0]
+                count = 0 if values[5] else len(plain_lines(values[1], [width(face, word) for word in part.words]))
+                self.lines.append(book.standing() if count else None)
+                book.block(count, values[2], values[3], False)
+        self.behind = book.standing()
+
+
+def ends_of(one, two):
+    """The ends of two standings, by [9.3]."""
+    return None if one == two else (min(one, two), max(one, two))
+
+
+def in_order(ends):
+    """Ends in their order: pairs ascending, None last."""
+    return sorted(ends, key=lambda end: (end is None, end or ()))
+
+
+def counted(one, two):
+    """The number of counted blocks of a piece that is set twice, by [9.3]."""
+    return sum(first is not None and first != second for first, second in zip(one.lines, two.lines))
+
+
+class Edited:
+    """A piece that is set before and after an edit, by [9.4]: its ends and its counted blocks behind the own part."""
+
+    def __init__(self, style, piece, edit, context, standing):
+        self.old, self.new = Set(style, piece, context, standing), Set(style, edit.apply(piece), context, standing)
+        first, stop = edit.own(piece)
+        shift = len(self.new.lines) - len(self.old.lines)
+        behind = list(zip(self.new.lines[stop:], self.old.lines[stop - shift:]))
+        self.ends = ends_of(self.old.behind, self.new.behind)
+        self.counted = sum(entry is not None and entry != former for entry, former in behind)
+
+
+def is_complete(grammar, piece):
+    """Whether no piece in the piece is wrong, if its own label is not asked for."""
+    rows = {}
+    for kind in grammar.kinds:
+        rooms = range(grammar.rooms(kind))
+        steps = [(room,) + step for room in rooms for step in grammar.steps(kind, room)]
+        finals = [room for room in rooms if grammar.is_final(kind, room)]
+        rows[kind] = None if grammar.has_blocks(kind) else (len(rooms), steps, finals)
+    inside = piece.words if piece.is_block else piece.parts
+    return piece.kind in rows and Grammar(piece.kind, rows).fits(type(piece)(piece.kind, "", inside))
+
+
+def is_held(piece, edit):
+    """Whether the piece holds the edit, whose path begins at it, by [9.5]."""
+    return edit.path != () or edit.DEED == "words" or (edit.DEED == "marks" and edit.marks == piece.marks)
+
+
+def each_edit(grammar, tree, deed, most, letters=""):
+    """All edits of the deed that apply to the tree and lead to complete pieces; new words and pieces cost at most so much."""
+    for path, piece in tree.each_piece():
+        edits = []
+        if deed == "words" and piece.is_block:
+            edits = [Words(path, words) for _, words in (all_texts(letters, most) if letters else [(0, ())])]
+        if deed == "marks":
+            edits = [Marks(path, marks) for marks in MARKS]
+        if deed == "parts" and path != ():
+            edits = [Drop(path)]
+        if deed == "parts" and not piece.is_block:
+            edits += [
+                Put(path + (place,), part) for place in range(len(piece) + 1) for kind in grammar.kinds
+                for marks in MARKS for part in all_pieces(grammar, kind, marks, most, letters)
+            ]
+        for edit in edits:
+            if is_complete(grammar, edit.apply(tree)):
+                yield edit
+
+
+def gates_at(style, grammar, tree):
+    """A list of (path, gate, arrival) of all pieces in document order, by [10.1] and [10.2]."""
+    found = []
+    for path, piece, context, standing in Set(style, tree, style.root_context(), ("top", 0, 0)).ahead:
+        values = style.sheet.values_of(piece.kind, piece.marks, context)
+        room = 0
+        if path != ():
+            parent = tree.piece_at(path[:-1])
+            for part in parent.parts[:path[-1]]:
+                room = grammar.follow(parent.kind, room, (part.kind, part.marks))
+        arrival = ("top", 0, 0) if values[4] and not values[5] else standing
+        found.append((path, (room, piece.kind, piece.marks, context), arrival))
+    return found
+
+
+def plain_runs(gates, tree):
+    """The runs of a manuscript, by [10.5]."""
+    paths = [path for path, _ in tree.each_block()]
+    places = {0}
+    for path, gate, _ in gates_at(gates.style, gates.grammar, tree):
+        before = sum(other < path for other in paths)
+        if gates.seam(gate) is not None and before < len(paths):
+            places.add(before)
+    told = sorted(places)
+    return list(zip(told, told[1:] + [len(paths)]))

@@ -47,6 +47,19 @@ FUNCTIONS = {
     },
     "jointtext": {"joint_texts": "one two joint first second"},
     "joinedrows": {"summaries": "one two grammar"},
+    "verdict": {"first_unlike": "one two tree", "joint_run": "one two tree", "compare_styles": "one two grammar"},
+    "tablecheck": {"flaw": "one two grammar rows"},
+    "singles": {"single_ends": "style grammar kind marks context standing"},
+    "pairs": {"pair_ends": "style grammar kind marks context one two"},
+    "ownparts": {
+        "own_ends": "style grammar kind new old", "edit_ends": "style grammar deed kind marks context standing",
+    },
+    "loops": {"loop_samples": "style grammar deed many"},
+    "reach": {"reach": "style grammar deed"},
+    "ranks": {"ranks_hold": "style grammar deed table"},
+    "seams": {"gates_of": "gates tree", "cut": "gates tree"},
+    "runs": {"job_between": "gates tree first stop", "set_job": "style job", "joined": "settings"},
+    "changes": {"checked_changes": "style changes", "changed": "style changes back", "all_lots": "count"},
 }
 CLASSES = {
     "faces": {"Face": {"__init__": "outlines apart", "letters": "", "ink": "letter", "step": "letter", "gap": "left right",
@@ -93,7 +106,32 @@ CLASSES = {
     "keptbook": {"Redo": {}, "KeptBook": {
         "__init__": "style tree", "printed": "", "entries": "", "undoable": "", "change": "edit", "change_all": "edits", "undo": "",
     }},
+    "verdict": {"Verdict": {"table": ""}},
+    "reach": {"Reach": {"is_endless": "", "sample": "number", "ranks": ""}},
+    "gates": {"Gates": {
+        "__init__": "style grammar", "__iter__": "", "__len__": "", "arrivals": "gate", "shown": "gate standing", "seam": "gate",
+    }},
+    "runs": {"Job": {"__init__": "ticket standing rows"}, "Setting": {"__init__": "ticket blocks"}},
+    "desks": {"Desks": {
+        "__init__": "gates tree", "runs": "", "job": "ticket", "deliver": "settings", "missing": "", "revise": "edit", "printed": "",
+    }},
+    "lots": {
+        "Lots": {
+            "__init__": "style changes grammar", "is_monotone": "", "fewest": "", "is_good": "lot", "witness": "lot", "mended": "lot",
+        },
+        "AlikeLots": {"__init__": "style changes grammar"},
+        "ReachLots": {"__init__": "style changes grammar deed most", "reach_of": "lot"},
+    },
+    "housematrix": {"House": {
+        "__init__": "styles grammar", "class_of": "place", "unlike": "first second", "recognised": "prints",
+    }},
 }
+ATTRIBUTES = {
+    "verdict": {"Verdict": "is_alike manuscript place"}, "reach": {"Reach": "deed most tree edit"}, "gates": {"Gates": "style grammar"},
+    "runs": {"Job": "ticket standing rows", "Setting": "ticket blocks"}, "desks": {"Desks": "tree"},
+    "lots": {"Lots": "good least turns"}, "housematrix": {"House": "classes specimens"},
+}
+GENERATORS = {"outlines": ("each_side",), "words": ("words_up_to",), "loops": ("loop_samples",), "changes": ("all_lots",)}
 CONSTANTS = {"pieces": ("KINDS", "MARKS"), "rules": ("VALUE_NAMES",)}
 
 
@@ -127,6 +165,22 @@ class TestInterface(unittest.TestCase):
                     elif isinstance(call, (classmethod, staticmethod)):
                         call = getattr(getattr(module, name), method)
                     self.assertEqual(names_of(call), parameters.split(), (name, method))
+
+    def test_attributes(self):
+        for stem, classes in ATTRIBUTES.items():
+            for name, attributes in classes.items():
+                made = [node for node in self.defined(stem)[name].body if getattr(node, "name", "") == "__init__"][0]
+                stored = {node.attr for node in ast.walk(made) if isinstance(node, ast.Attribute) and isinstance(node.ctx, ast.Store)}
+                self.assertLessEqual(set(attributes.split()), stored, name)
+
+    def test_generators(self):
+        for stem, names in GENERATORS.items():
+            for name in names:
+                self.assertTrue(inspect.isgeneratorfunction(getattr(importlib.import_module("pressalike." + stem), name)))
+
+    def test_bases(self):
+        lots = importlib.import_module("pressalike.lots")
+        self.assertTrue(issubclass(lots.AlikeLots, lots.Lots) and issubclass(lots.ReachLots, lots.Lots))
 
     def test_constants(self):
         for stem, names in CONSTANTS.items():

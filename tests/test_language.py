@@ -240,6 +240,21 @@ class TestCode(unittest.TestCase):
             if node.name == "__init__":
                 self.assertFalse([part for part in ast.walk(node) if isinstance(part, ast.Return)], stem)
 
+    def test_l5_names_of_properties_and_of_static_and_class_methods(self):
+        plain, special = set(), set()
+        for stem, node in nodes(ast.ClassDef):
+            for part in node.body:
+                if isinstance(part, ast.FunctionDef):
+                    (special if part.decorator_list else plain).add(part.name)
+        stored = {node.attr for _, node in nodes(ast.Attribute) if isinstance(node.ctx, ast.Store)}
+        self.assertEqual(special & (plain | stored), set())
+
+    def test_l7_what_stands_behind_a_star(self):
+        for stem, node in nodes(ast.Call):
+            for arg in node.args:
+                if isinstance(arg, ast.Starred):
+                    self.assertIsInstance(arg.value, (ast.Name, ast.Attribute), (stem, node.lineno))
+
     def test_l18_l26_attributes_and_methods(self):
         stored = {node.attr for _, node in nodes(ast.Attribute) if isinstance(node.ctx, ast.Store)}
         methods = {
