@@ -47,19 +47,34 @@ class FrontSearch:
         self._queue = []
         self._pushed = 0
 
+    def ask(self, request):
+        """Return the number of the inside that the request asks for; its ends come to be known by `go_on`."""
+        return self._number(self.fronts.inside(request))
+
     def asked(self, request):
         """Return the number of the inside that the request asks for, once all of its ends are known."""
-        number = self._number(self.fronts.inside(request))
-        while self._fresh or self._queue:
+        number = self.ask(request)
+        while not self.go_on(1000):
+            pass
+        return number
+
+    def go_on(self, steps):
+        """Take up at most so many things; tell whether all ends of all that has been asked for are known now.
+
+        What is known is right all along, also before all is.
+        """
+        for _ in range(steps):
             if self._fresh:
                 self._begin(self._fresh.pop())
-            else:
+            elif self._queue:
                 cost, _, at, goal, way = heappop(self._queue)
                 if way[0] == "part":
                     self._settle_arc(cost, at, goal, way)
                 else:
                     self._settle(cost, at, goal, way)
-        return number
+            else:
+                return True
+        return False
 
     def least_way(self, item):
         """Return the way of least cost of an item or an arc."""

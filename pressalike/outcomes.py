@@ -5,6 +5,8 @@ from pressalike.errors import BadGrammar
 from pressalike.frontsearch import FrontSearch
 from pressalike.greatest import Greatest
 
+_FIRST_STEPS = 2000
+
 
 def trimmed_with(grammar, kind):
     """Return the trimmed grammar; BadGrammar(kind) if it has no such kind."""
@@ -30,11 +32,28 @@ class Outcomes:
     def __init__(self, style, grammar, deed, request, only_all=False):
         self.search = FrontSearch(style, grammar, deed)
         self.request = request
-        number = self.search.asked(request)
+        number = self.search.ask(request)
+        self._greatest = self._worked_out(number) if only_all else self._all_worked_out(number)
         self._items = [(number, end) for end in ends_in_order(self.search.ends[number])]
-        self._greatest = Greatest(self.search, number, only_all)
         self._plain = Builder(grammar, self.search.least_way)
         self._full = Builder(grammar, self._greatest.chosen)
+
+    def _all_worked_out(self, number):
+        """Return the greatest numbers of all ends."""
+        while not self.search.go_on(_FIRST_STEPS):
+            pass
+        return Greatest(self.search, number, False)
+
+    def _worked_out(self, number):
+        """Return the greatest numbers of all ends, or of some of which one has none."""
+        # What goes round for ever mostly does so among little pieces; then the great ones need not be gone through.
+        steps = _FIRST_STEPS
+        while not self.search.go_on(steps):
+            greatest = Greatest(self.search, number, True)
+            if greatest.turns:
+                return greatest
+            steps = 4 * steps
+        return Greatest(self.search, number, True)
 
     def lacks_most(self):
         """Tell whether one of the ends has no greatest number."""

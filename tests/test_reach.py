@@ -343,6 +343,21 @@ class TestLoops(ReachCase):
         for deed, style, grammar in (("words", style_of(), FLAT), ("parts", style_of(length=3), NESTED), ("marks", style_of(Rule(1, mark="x", out=True)), MARKED)):
             self.check_samples(style, grammar, deed, 12)
 
+    def test_grammars_with_many_steps(self):
+        labels = [("B", ""), ("B", "x"), ("C", ""), ("C", "y"), ("A", "x"), ("A", "xy")]
+        rows = {kind: (2, [(room,) + label + ((room + at) % 2,) for room in (0, 1) for at, label in enumerate(labels)], [0, 1]) for kind in "AC"}
+        grammar = Grammar("A", dict(rows, B=None))
+        rules = [
+            Rule(1, kind="B", mark="x", kept=True), Rule(2, elder="B", space=1), Rule(1, above="y", measure=1), Rule(1, parent="C", kept=True),
+        ]
+        for deed in DEEDS:
+            self.check_samples(style_of(*rules, length=3), grammar, deed, 12)
+            # With a new page at each block nothing is felt.
+            style = style_of(*rules, Rule(3, kind="B", page=True), length=3)
+            told = reach(style, grammar, deed)
+            self.assertEqual(told.most, 0)
+            self.assertEqual(self.check_edit(style, grammar, deed, told.tree, told.edit), 0)
+
     def test_loops_of_pieces_in_pieces(self):
         # Each piece has just one part in front, and a block behind it.
         grammar = Grammar("A", {
