@@ -31,7 +31,8 @@ class RankCheck:
         self._rows = {}
         for sort, kind, marks, context, ahead, end, number in table:
             request = ("pair" if sort == "behind" else "edit", kind, marks, context, ahead)
-            self._rows.setdefault(request, {})[end] = number
+            self._rows.setdefault(request, {})
+            self._rows[request][end] = number
         # For each front, a dict from the fronts behind its parts to the greatest number of a row that leads there.
         self._ways = {}
         self._sums = {}

@@ -11,7 +11,9 @@ def flaw(one, two, grammar, rows):
     trimmed = grammar.trimmed()
     table = {}
     for row in rows:
-        table.setdefault(tuple(row[:5]), {})[row[5]] = True
+        key = tuple(row[:5])
+        table.setdefault(key, {})
+        table[key][row[5]] = True
     root = (trimmed.root, "", one.root_context(), two.root_context(), joint_begin())
     if root not in table:
         return "begin"
