@@ -14,7 +14,8 @@ class Lots:
         self._changes = checked_changes(style, changes)
         self._grammar = grammar.trimmed()
         self._witnesses = {}
-        for lot in all_lots(len(self._changes)):
+        lots = list(all_lots(len(self._changes)))
+        for lot in lots:
             self._witnesses[lot] = self._judged(lot)
         good = [lot for lot in self._witnesses if self._witnesses[lot] is None]
         self.good = tuple(good)

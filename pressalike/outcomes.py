@@ -113,7 +113,7 @@ class Outcomes:
         todo = starts
         while todo:
             fresh = []
-            for item in todo:
+            for item in list(todo):
                 if item in goals:
                     return _steps_to(came, item), item
                 for way, kids in self._greatest.ways_of(item):

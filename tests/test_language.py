@@ -8,6 +8,8 @@ import builtins
 import pathlib
 import unittest
 
+from walks import changed_walks
+
 FOLDER = pathlib.Path(__file__).resolve().parent.parent / "pressalike"
 FILES = sorted(path for path in FOLDER.iterdir() if path.name != "__pycache__")
 TREES = {path.stem: ast.parse(path.read_text()) for path in FILES}
@@ -49,6 +51,14 @@ def own_errors():
 def parameters(node):
     told = node.args.posonlyargs + node.args.args + node.args.kwonlyargs
     return [arg.arg for arg in told + [node.args.vararg, node.args.kwarg] if arg is not None]
+
+
+def own_generators():
+    return {node.name for _, node in functions() if any(
+        isinstance(part, (ast.Yield, ast.YieldFrom)) for part in ast.walk(node))}
+
+
+GENERATORS = own_generators()
 
 
 class TestFiles(unittest.TestCase):
@@ -129,15 +139,13 @@ class TestCode(unittest.TestCase):
                 ast.literal_eval(default)
 
     def test_l7_no_generator_expression_where_a_list_is_asked_for(self):
-        generators = {node.name for _, node in functions() if any(
-            isinstance(part, (ast.Yield, ast.YieldFrom)) for part in ast.walk(node))}
         for stem, node in nodes(ast.Call):
             if isinstance(node.func, ast.Name) and node.func.id in EAGER:
                 for arg in node.args:
                     self.assertNotIsInstance(arg, ast.GeneratorExp, (stem, node.lineno))
                     if isinstance(arg, ast.Call):
                         name = getattr(arg.func, "id", getattr(arg.func, "attr", None))
-                        self.assertNotIn(name, generators, (stem, node.lineno))
+                        self.assertNotIn(name, GENERATORS, (stem, node.lineno))
 
     def test_l8_builtins(self):
         own = {node.name for _, node in nodes((ast.FunctionDef, ast.ClassDef))}
@@ -199,6 +207,38 @@ class TestCode(unittest.TestCase):
         for stem, node in nodes((ast.Assign, ast.Return)):
             if isinstance(node.value, ast.Call) and isinstance(node.value.func, ast.Name):
                 self.assertNotIn(node.value.func.id, ("zip", "enumerate", "reversed", "map"), (stem, node.lineno))
+
+    def test_l23_what_a_loop_walks_is_not_changed_in_it(self):
+        found = {stem: changed_walks(tree, GENERATORS) for stem, tree in TREES.items()}
+        self.assertEqual({stem: found[stem] for stem in found if found[stem]}, {})
+
+    def test_l23_the_test_sees_walks_that_are_changed(self):
+        for head, change in (
+            ("todo", "todo.append(x)"), ("todo", "fresh.append(x)"), ("reversed(todo)", "del fresh[0]"),
+            ("self.rows", "self.rows[x] = 1"), ("self.rows[0].items()", "self.rows[0].pop(x)"), ("todo or ()", "fresh += [x]"),
+            ("self.rows", "self.grow(x)"), ("all_lots(len(self.rows))", "self.found[x] = 1"),
+            ("all_lots(todo)", "todo.append(x)"), ("list(all_lots(self.many))", "self.grow(x)"), ("todo", "heappush(todo, x)"),
+        ):
+            self.assertEqual(changed_walks(self.loop_over(head, change), GENERATORS), [5], (head, change))
+        for head, change in (
+            ("todo", "other.append(x)"), ("list(todo)", "fresh.append(x)"), ("lots", "self.found[x] = 1"),
+            ("all_lots(3)", "self.found[x] = 1"), ("list(self.rows)", "self.grow(x)"), ("todo[1:]", "todo.append(x)"),
+        ):
+            self.assertEqual(changed_walks(self.loop_over(head, change), GENERATORS), [], (head, change))
+
+    def loop_over(self, head, change):
+        """A file with a loop in its row 5; `todo` and `fresh` are names of one list."""
+        return ast.parse(f"""class Box:
+    def walk(self, todo, other):
+        fresh = []
+        lots = list(all_lots(len(self.rows)))
+        for x in {head}:
+            {change}
+        todo = fresh
+
+    def grow(self, x):
+        self.rows.append(x)
+""")
 
     def test_l24_sets(self):
         for stem, tree in TREES.items():
