@@ -13,10 +13,8 @@ class Lots:
         self._style = style
         self._changes = checked_changes(style, changes)
         self._grammar = grammar.trimmed()
-        self._witnesses = {}
         lots = list(all_lots(len(self._changes)))
-        for lot in lots:
-            self._witnesses[lot] = self._judged(lot)
+        self._witnesses = self._judged(lots)
         good = [lot for lot in self._witnesses if self._witnesses[lot] is None]
         self.good = tuple(good)
         self.least = tuple([lot for lot in good if not any([_is_proper_part(other, lot) for other in good])])
@@ -50,9 +48,9 @@ class Lots:
     def _checked(self, lot):
         return checked_lot(len(self._changes), lot)
 
-    def _judged(self, lot):
-        """Return the witness of the lot, None if it is good; the lots come in their order."""
-        return None
+    def _judged(self, lots):
+        """Return a dict from each of the lots, in their order, to its witness, None if it is good."""
+        return {lot: None for lot in lots}
 
 
 def _is_proper_part(one, two):
@@ -64,20 +62,27 @@ class AlikeLots(Lots):
     """Lots for likeness: those with which every manuscript is printed as by the style without any change."""
 
     def __init__(self, style, changes, grammar):
-        self._compared = []
         super().__init__(style, changes, grammar)
 
-    def _judged(self, lot):
-        mended = self.mended(lot)
-        if mended == self._style:
-            return None
-        for other, tree in self._compared:
+    def _judged(self, lots):
+        compared = [(self._style, None)]
+        witnesses = {}
+        for lot in list(lots):
+            mended = self.mended(lot)
+            told = self._told_by(compared, mended)
+            if told is None:
+                told = (mended, least_unlike(mended, self._style, self._grammar))
+                compared.append(told)
+            witnesses[lot] = told[1]
+        return witnesses
+
+    def _told_by(self, compared, mended):
+        """Return the first of the pairs (style, witness) whose witness serves for this style, None if none does."""
+        for other, tree in compared:
             # A manuscript that shows one lot often shows others, too.
             if other == mended or (tree is not None and print_tree(mended, tree) != print_tree(self._style, tree)):
-                return tree
-        tree = least_unlike(mended, self._style, self._grammar)
-        self._compared.append((mended, tree))
-        return tree
+                return other, tree
+        return None
 
 
 class ReachLots(Lots):
@@ -87,24 +92,36 @@ class ReachLots(Lots):
         self.deed = deed
         self.most = most
         self._reaches = {}
-        self._known = []
         super().__init__(style, changes, grammar)
 
     def reach_of(self, lot):
         """Return the reach with the lot taken back, None if it is endless."""
         return self._reaches[self._checked(lot)]
 
-    def _judged(self, lot):
-        told = self._reach_with(self.mended(lot))
-        self._reaches[lot] = told.most
+    def _judged(self, lots):
+        known = []
+        witnesses, reaches = {}, {}
+        for lot in list(lots):
+            mended = self.mended(lot)
+            told = _known_of(known, mended)
+            if told is None:
+                told = reach(mended, self._grammar, self.deed)
+                known.append((mended, told))
+            witnesses[lot] = self._witness_in(told)
+            reaches[lot] = told.most
+        self._reaches = reaches
+        return witnesses
+
+    def _witness_in(self, told):
+        """Return the witness of a lot with this reach, None if the lot is good."""
         if told.is_endless:
             return told.sample(self.most + 1)
         return None if told.most <= self.most else (told.tree, told.edit)
 
-    def _reach_with(self, style):
-        for other, told in self._known:
-            if other == style:
-                return told
-        told = reach(style, self._grammar, self.deed)
-        self._known.append((style, told))
-        return told
+
+def _known_of(known, style):
+    """Return the reach of an equal style among the pairs (style, reach), None if there is none."""
+    for other, told in known:
+        if other == style:
+            return told
+    return None

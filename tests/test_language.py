@@ -218,11 +218,13 @@ class TestCode(unittest.TestCase):
             ("self.rows", "self.rows[x] = 1"), ("self.rows[0].items()", "self.rows[0].pop(x)"), ("todo or ()", "fresh += [x]"),
             ("self.rows", "self.grow(x)"), ("all_lots(len(self.rows))", "self.found[x] = 1"),
             ("all_lots(todo)", "todo.append(x)"), ("list(all_lots(self.many))", "self.grow(x)"), ("todo", "heappush(todo, x)"),
+            ("lots", "self.found[x] = 1"), ("lots", "self.grow(x)"), ("enumerate(lots)", "self.found[x] = 1"),
         ):
             self.assertEqual(changed_walks(self.loop_over(head, change), GENERATORS), [5], (head, change))
         for head, change in (
-            ("todo", "other.append(x)"), ("list(todo)", "fresh.append(x)"), ("lots", "self.found[x] = 1"),
-            ("all_lots(3)", "self.found[x] = 1"), ("list(self.rows)", "self.grow(x)"), ("todo[1:]", "todo.append(x)"),
+            ("todo", "other.append(x)"), ("list(todo)", "fresh.append(x)"), ("lots", "other[x] = 1"),
+            ("list(lots)", "self.found[x] = 1"), ("list(lots)", "self.grow(x)"), ("all_lots(3)", "self.found[x] = 1"),
+            ("list(self.rows)", "self.grow(x)"), ("todo[1:]", "todo.append(x)"),
         ):
             self.assertEqual(changed_walks(self.loop_over(head, change), GENERATORS), [], (head, change))
 

@@ -105,9 +105,16 @@ def changed_walks(tree, generators):
             for loop in loops:
                 changed = changed_by(loop.body, methods)
                 both = {same(name) for name in walked(loop.iter)} & {same(name) for name in changed}
-                if both or changed & passed_to(generators, loop.iter, changed):
+                heads = [loop.iter] + values_of(function, walked(loop.iter))
+                if both or any(changed & passed_to(generators, head, changed) for head in heads):
                     lines.append(loop.lineno)
     return lines
+
+
+def values_of(function, names):
+    """The values that the function assigns to these names: a list that is made ahead of the loop counts as its head."""
+    pairs = [pair for node in ast.walk(function) for pair in assigned_pairs(node)]
+    return [value for target, value in pairs if owners(target) & names]
 
 
 def passed_to(generators, node, changed):
